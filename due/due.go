@@ -45,11 +45,22 @@ func (t *Table) At(node, hops int) (int, bool) {
 	return 0, false
 }
 
+// Through tells if one may come to that node at that time, and still be in time with so many hops.
+func (t *Table) Through(node, at, hops int) bool {
+	last, ok := t.At(node, hops)
+	return ok && at <= last && t.open(node)
+}
+
+// open tells if one may come to that node.
+func (t *Table) open(node int) bool {
+	return node == t.to || !t.shut[node]
+}
+
 // More counts one more hop, and tells if any time is later, or new, by it. If none is, none will ever be.
 func (t *Table) More() bool {
 	later := map[int]int{}
 	for _, node := range t.fresh {
-		if node == t.to || !t.shut[node] {
+		if t.open(node) {
 			t.ahead(node, later)
 		}
 	}
