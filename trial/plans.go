@@ -4,6 +4,7 @@ import (
 	"felucca/api"
 	"felucca/ledger"
 	"felucca/plan"
+	"felucca/view"
 )
 
 // Plan is a right plan of so many nodes, with small numbers; not all of its contacts have a range.
@@ -41,4 +42,9 @@ func Booked(d *Dice, p api.Plan) []api.Booked {
 		}
 	}
 	return l
+}
+
+// Ways is all routes by which b may go, by any deadline, found by trying each contact.
+func Ways(p api.Plan, l []api.Booked, b api.Bundle) []api.Route {
+	return Routes(view.All(p, l, b.Class), b.From, b.To, p.Clock, b.Size, api.Far)
 }
