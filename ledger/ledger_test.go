@@ -253,3 +253,23 @@ func TestNoMoreThanTheVolumeP9_7(t *testing.T) {
 		t.Error("too little was done:", done)
 	}
 }
+
+func TestErrorsGiveNewMemoryP9_6(t *testing.T) {
+	for i, f := range []func(l []api.Booked) ([]api.Booked, bool){
+		func(l []api.Booked) ([]api.Booked, bool) { return ledger.Book(l, api.Contact{}, 0, 0) },
+		func(l []api.Booked) ([]api.Booked, bool) { return ledger.Book(l, thirty(5), 0, 99) },
+		func(l []api.Booked) ([]api.Booked, bool) { return ledger.Release(l, 5, 3, 0) },
+		func(l []api.Booked) ([]api.Booked, bool) { return ledger.Release(l, 4, 0, 1) },
+		func(l []api.Booked) ([]api.Booked, bool) { return ledger.Drop(l), false },
+	} {
+		l := some()
+		got, ok := f(l)
+		if ok || !slices.Equal(got, some()) {
+			t.Error(i, got, ok)
+		}
+		got[0].Used[0] = 99
+		if !slices.Equal(l, some()) {
+			t.Error("what is answered shares with what was handed in", i)
+		}
+	}
+}

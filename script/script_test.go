@@ -55,6 +55,7 @@ func TestActsP25_2(t *testing.T) {
 		{[10]byte{5, 5, 2, 255, 2, 255, 9, 9, 9, 9}, api.Act{Do: api.DoRoute, B: api.Bundle{From: 2, To: 3, Size: 255, Class: 2, Deadline: 1020}}},
 		{[10]byte{12, 3, 7, 0, 255, 1, 9, 9, 9, 9}, api.Act{Do: api.DoRoute, B: api.Bundle{From: 4, To: 4, Deadline: 4}}},
 		{[10]byte{6, 5, 2, 19, 2, 255, 9, 9, 9, 9}, api.Act{Do: api.DoList, B: api.Bundle{From: 2, To: 3}, N: 9}}, {[10]byte{13, 4, 3, 10, 2, 255, 9, 9, 9, 9}, api.Act{Do: api.DoList, B: api.Bundle{From: 1, To: 4}}},
+		{[10]byte{6, 3, 4, 1}, api.Act{Do: api.DoList, B: api.Bundle{From: 4, To: 1}, N: 1}}, {[10]byte{5, 4, 4, 1, 3, 2}, api.Act{Do: api.DoRoute, B: api.Bundle{From: 1, To: 1, Size: 1, Deadline: 8}}},
 	} {
 		got, left := script.Acts(x.x[:])
 		if len(got) != 1 || left != 0 || !same(got[0], x.want) {
