@@ -42,16 +42,15 @@ func same(a, b api.State) bool {
 }
 
 func TestNewP24_1(t *testing.T) {
-	for _, r := range []*router.Router{router.New(), {}} {
-		if s := r.State(); !same(s, api.State{}) {
-			t.Error(s)
-		}
-		stats(t, r, 0, 0)
-		if l, code := r.List(1, 2, 8); code != api.OK || len(l) != 0 {
-			t.Error(l, code)
-		}
-		stats(t, r, 0, 1)
+	r := router.New()
+	if s := r.State(); !same(s, api.State{}) {
+		t.Error(s)
 	}
+	stats(t, r, 0, 0)
+	if l, code := r.List(1, 2, 8); code != api.OK || len(l) != 0 {
+		t.Error(l, code)
+	}
+	stats(t, r, 0, 1)
 }
 
 func TestExampleP24_3(t *testing.T) {
