@@ -12,29 +12,20 @@ import (
 	"felucca/trial"
 )
 
-// some are right edges, all open from 10 on, without delay: two from 1 to 2, from 2 to 3, and from 3 to 4, and one from 1 to 3, and from 3 to 2.
-func some() []api.Edge {
-	var l []api.Edge
-	for i, x := range [][2]int{{1, 2}, {1, 2}, {2, 3}, {2, 3}, {3, 4}, {3, 4}, {1, 3}, {3, 2}} {
-		l = append(l, api.Edge{ID: i + 1, From: x[0], To: x[1], Open: 10, End: 50, Rate: 1, Room: 40})
-	}
-	return l
-}
-
-// fromOneToFour are the IDs of all routes of some from 1 to 4, in order.
+// fromOneToFour are the IDs of all routes of the ladder from 1 to 4, in order.
 func fromOneToFour() [][]int {
 	return [][]int{{7, 5}, {7, 6}, {1, 3, 5}, {1, 3, 6}, {1, 4, 5}, {1, 4, 6}, {2, 3, 5}, {2, 3, 6}, {2, 4, 5}, {2, 4, 6}}
 }
 
 func TestRoutesP19_1(t *testing.T) {
 	for _, k := range []int{1, 2, 3, 5, 9, 10, 11, 1000, api.MaxInt} {
-		got := best.Routes(some(), 1, 4, 0, 1, 100, k)
+		got := best.Routes(trial.Ladder(), 1, 4, 0, 1, 100, k)
 		want := fromOneToFour()[:min(k, 10)]
 		if len(got) != len(want) {
 			t.Fatal(k, got)
 		}
 		for i, r := range got {
-			whole, _ := path.Route(some(), want[i], 1, 4, 0, 1)
+			whole, _ := path.Route(trial.Ladder(), want[i], 1, 4, 0, 1)
 			if !path.Same(r, whole) {
 				t.Error(k, i, r)
 			}
@@ -45,7 +36,7 @@ func TestRoutesP19_1(t *testing.T) {
 		{1, 3, 0, 100, 99, 5}, {3, 1, 0, 100, 99, 0}, {1, 2, 0, 100, 99, 3}, {1, 4, 0, api.MinInt, 99, 0}, {1, 4, 0, api.MaxInt, 99, 10},
 		{1, 4, 0, 100, 0, 0}, {1, 4, 0, 100, -1, 0}, {1, 4, 0, 100, api.MinInt, 0}, {3, 3, 5, 5, 99, 1}, {3, 3, 5, 4, 99, 0}, {3, 3, 5, 5, 0, 0}, {9, 8, 5, 99, 9, 0},
 	} {
-		if got := best.Routes(some(), x.from, x.to, x.now, 1, x.by, x.k); len(got) != x.n {
+		if got := best.Routes(trial.Ladder(), x.from, x.to, x.now, 1, x.by, x.k); len(got) != x.n {
 			t.Error(x, got)
 		}
 	}
@@ -61,22 +52,22 @@ func TestNotRightToAskP19_1(t *testing.T) {
 			t.Error(got)
 		}
 	}
-	twice, never := some(), some()
+	twice, never := trial.Ladder(), trial.Ladder()
 	twice[1].ID, never[3].Open = 1, -1
 	for _, l := range [][]api.Edge{twice, never, {{}}} {
 		ask(l, 1, 1, 0, 0)
 		ask(l, 1, 4, 0, 0)
 	}
 	for _, n := range []int{0, -1, 256, api.MinInt, api.MaxInt} {
-		ask(some(), n, n, 0, 0)
-		ask(some(), 1, n, 0, 0)
-		ask(some(), n, 1, 0, 0)
+		ask(trial.Ladder(), n, n, 0, 0)
+		ask(trial.Ladder(), 1, n, 0, 0)
+		ask(trial.Ladder(), n, 1, 0, 0)
 	}
 	for _, n := range []int{-1, 1<<40 + 1, api.MinInt, api.MaxInt} {
-		ask(some(), 1, 1, n, 0)
+		ask(trial.Ladder(), 1, 1, n, 0)
 	}
 	for _, n := range []int{-1, 1 << 40, api.MinInt, api.MaxInt} {
-		ask(some(), 1, 1, 0, n)
+		ask(trial.Ladder(), 1, 1, 0, n)
 	}
 }
 
@@ -100,7 +91,7 @@ func TestRoutesAreTheFirstP19_1(t *testing.T) {
 }
 
 func TestNothingIsSharedP19_2(t *testing.T) {
-	l := append(some(), api.Edge{ID: -7})
+	l := append(trial.Ladder(), api.Edge{ID: -7})
 	got := best.Routes(l[:8], 1, 4, 0, 1, 100, 5)
 	for i := range got {
 		other := slices.Clone(got[(i+1)%5].Hops)
@@ -111,7 +102,7 @@ func TestNothingIsSharedP19_2(t *testing.T) {
 			t.Error("two routes share their hops", i)
 		}
 	}
-	if !slices.Equal(l, append(some(), api.Edge{ID: -7})) {
+	if !slices.Equal(l, append(trial.Ladder(), api.Edge{ID: -7})) {
 		t.Error(l)
 	}
 	for i, r := range best.Routes(l[:8], 1, 4, 0, 1, 100, 5) {

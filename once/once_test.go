@@ -13,21 +13,12 @@ import (
 	"felucca/trial"
 )
 
-// some are right edges, all open from 10 on, without delay: two from 1 to 2, from 2 to 3, and from 3 to 4, and one from 1 to 3, and from 3 to 2.
-func some() []api.Edge {
-	var l []api.Edge
-	for i, x := range [][2]int{{1, 2}, {1, 2}, {2, 3}, {2, 3}, {3, 4}, {3, 4}, {1, 3}, {3, 2}} {
-		l = append(l, api.Edge{ID: i + 1, From: x[0], To: x[1], Open: 10, End: 50, Rate: 1, Room: 0})
-	}
-	return l
-}
-
 func TestMadeP22_1(t *testing.T) {
 	for name, call := range map[string]func(r *once.Row){
 		"Get 8": func(r *once.Row) { r.Get(8) }, "Get 0": func(r *once.Row) { r.Get(0) }, "Get -1": func(r *once.Row) { r.Get(-1) },
 		"Uses": func(r *once.Row) { r.Uses(1) }, "Holds": func(r *once.Row) { r.Holds(1) },
 	} {
-		for _, r := range []*once.Row{once.New(some(), 1, 4, 0), once.New(nil, 1, 4, 0), once.New(nil, 1, 1, 0), once.New(some(), 0, 4, 0)} {
+		for _, r := range []*once.Row{once.New(trial.Ladder(), 1, 4, 0), once.New(nil, 1, 4, 0), once.New(nil, 1, 1, 0), once.New(trial.Ladder(), 0, 4, 0)} {
 			if r.Made() != 0 || r.Made() != 0 {
 				t.Error("it is made ahead of", name)
 			}
@@ -46,18 +37,18 @@ func TestMadeP22_1(t *testing.T) {
 
 func TestGetP22_2(t *testing.T) {
 	for _, x := range []struct{ from, to, now int }{{1, 4, 0}, {1, 4, 20}, {1, 3, 0}, {1, 2, 0}, {4, 1, 0}, {1, 4, 50}, {3, 3, 9}, {0, 1, 0}, {1, 256, 0}, {1, 4, -1}, {1, 4, 1<<40 + 1}, {7, 7, 1 << 40}} {
-		all := best.Routes(some(), x.from, x.to, x.now, 0, 1<<40, 8)
-		r := once.New(some(), x.from, x.to, x.now)
+		all := best.Routes(trial.Ladder(), x.from, x.to, x.now, 0, 1<<40, 8)
+		r := once.New(trial.Ladder(), x.from, x.to, x.now)
 		for _, k := range []int{8, 1, 3, 0, -1, 9, api.MaxInt, api.MinInt, 7} {
 			if got := r.Get(k); !order.Same(got, all[:max(0, min(k, len(all)))]) {
 				t.Error(x, k, got)
 			}
 		}
 	}
-	if n := len(once.New(some(), 1, 4, 0).Get(99)); n != 8 {
+	if n := len(once.New(trial.Ladder(), 1, 4, 0).Get(99)); n != 8 {
 		t.Error("of ten routes there are eight:", n)
 	}
-	wrong := some()
+	wrong := trial.Ladder()
 	wrong[0].ID = 2
 	if n := len(once.New(wrong, 1, 4, 0).Get(8)); n != 0 {
 		t.Error("it is not right to ask:", n)
@@ -65,7 +56,7 @@ func TestGetP22_2(t *testing.T) {
 }
 
 func TestUsesP22_3(t *testing.T) {
-	r := once.New(some(), 1, 4, 0)
+	r := once.New(trial.Ladder(), 1, 4, 0)
 	used := map[int]bool{}
 	for _, one := range r.Get(8) {
 		for _, id := range path.IDs(one) {
@@ -80,22 +71,22 @@ func TestUsesP22_3(t *testing.T) {
 	if used[8] || !used[7] || !used[6] {
 		t.Error(used)
 	}
-	if once.New(some(), 3, 3, 0).Uses(0) || once.New(nil, 1, 4, 0).Uses(1) {
+	if once.New(trial.Ladder(), 3, 3, 0).Uses(0) || once.New(nil, 1, 4, 0).Uses(1) {
 		t.Error("there are no hops")
 	}
 }
 
 func TestHoldsP22_3(t *testing.T) {
-	late := append(some()[:7], api.Edge{ID: 20, From: 1, To: 4, Open: 30, End: 50, Rate: 1})
+	late := append(trial.Ladder()[:7], api.Edge{ID: 20, From: 1, To: 4, Open: 30, End: 50, Rate: 1})
 	for _, x := range []struct {
 		l             []api.Edge
 		from, to, now int
 		at            int
 		want          bool
 	}{
-		{some(), 1, 4, 0, 0, true}, {some(), 1, 4, 0, 10, true}, {some(), 1, 4, 0, 11, false}, {some(), 1, 4, 12, 12, true}, {some(), 1, 4, 12, 13, false}, {some(), 1, 4, 12, api.MinInt, true},
+		{trial.Ladder(), 1, 4, 0, 0, true}, {trial.Ladder(), 1, 4, 0, 10, true}, {trial.Ladder(), 1, 4, 0, 11, false}, {trial.Ladder(), 1, 4, 12, 12, true}, {trial.Ladder(), 1, 4, 12, 13, false}, {trial.Ladder(), 1, 4, 12, api.MinInt, true},
 		{late, 1, 4, 0, 10, true}, {late, 1, 4, 0, 11, false}, {late[7:], 1, 4, 0, 30, true}, {late[7:], 1, 4, 0, 31, false}, {late[7:], 1, 4, 0, api.MaxInt, false},
-		{some(), 3, 3, 0, 0, false}, {some(), 3, 3, 0, api.MinInt, false}, {some(), 4, 1, 0, api.MaxInt, true}, {nil, 1, 2, 0, 5, true}, {some(), 0, 1, 0, 5, true},
+		{trial.Ladder(), 3, 3, 0, 0, false}, {trial.Ladder(), 3, 3, 0, api.MinInt, false}, {trial.Ladder(), 4, 1, 0, api.MaxInt, true}, {nil, 1, 2, 0, 5, true}, {trial.Ladder(), 0, 1, 0, 5, true},
 	} {
 		if got := once.New(x.l, x.from, x.to, x.now).Holds(x.at); got != x.want {
 			t.Error(x, got)
@@ -104,12 +95,12 @@ func TestHoldsP22_3(t *testing.T) {
 }
 
 func TestNothingIsSharedP22_4(t *testing.T) {
-	l := append(some(), api.Edge{ID: -7})
+	l := append(trial.Ladder(), api.Edge{ID: -7})
 	r := once.New(l[:8], 1, 4, 0)
 	for i := range l {
 		l[i] = api.Edge{ID: -8}
 	}
-	want := best.Routes(some(), 1, 4, 0, 0, 1<<40, 8)
+	want := best.Routes(trial.Ladder(), 1, 4, 0, 0, 1<<40, 8)
 	got := r.Get(8)
 	if !order.Same(got, want) {
 		t.Error("what was handed in was kept", got)
@@ -125,17 +116,17 @@ func TestNothingIsSharedP22_4(t *testing.T) {
 	if again := r.Get(8); !order.Same(again, want) || r.Uses(-8) {
 		t.Error("what was answered was kept", again)
 	}
-	given := append(some(), api.Edge{ID: -7})
+	given := append(trial.Ladder(), api.Edge{ID: -7})
 	once.New(given[:8], 1, 4, 0).Get(8)
-	if !slices.Equal(given, append(some(), api.Edge{ID: -7})) {
+	if !slices.Equal(given, append(trial.Ladder(), api.Edge{ID: -7})) {
 		t.Error("what was handed in changed", given)
 	}
 }
 
 func TestSeveralAtOnceP22_4(t *testing.T) {
-	want := best.Routes(some(), 1, 4, 0, 0, 1<<40, 8)
+	want := best.Routes(trial.Ladder(), 1, 4, 0, 0, 1<<40, 8)
 	for range 20 {
-		r := once.New(some(), 1, 4, 0)
+		r := once.New(trial.Ladder(), 1, 4, 0)
 		var all sync.WaitGroup
 		for i := range 16 {
 			all.Go(func() {

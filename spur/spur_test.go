@@ -11,15 +11,6 @@ import (
 	"felucca/trial"
 )
 
-// some are right edges, all open from 10 on, without delay: two from 1 to 2, from 2 to 3, and from 3 to 4, and one from 1 to 3, and from 3 to 2.
-func some() []api.Edge {
-	var l []api.Edge
-	for i, x := range [][2]int{{1, 2}, {1, 2}, {2, 3}, {2, 3}, {3, 4}, {3, 4}, {1, 3}, {3, 2}} {
-		l = append(l, api.Edge{ID: i + 1, From: x[0], To: x[1], Open: 10, End: 50, Rate: 1, Room: 40})
-	}
-	return l
-}
-
 func none(t *testing.T, x any, r api.Route, ok bool) {
 	t.Helper()
 	if ok || r.Arrive != 0 || len(r.Hops) != 0 {
@@ -40,8 +31,8 @@ func TestRouteP18_1(t *testing.T) {
 		{[]int{1}, []int{3, 1, 5}, 1, 4, 0, 100, 13, []int{1, 4, 5}}, {[]int{2, 4}, []int{6}, 1, 4, 20, 100, 23, []int{2, 4, 5}},
 		{[]int{7, 6}, []int{6, 5, 7}, 1, 4, 0, 12, 12, []int{7, 6}}, {nil, nil, 3, 3, 5, 5, 5, nil}, {nil, []int{1, 2, 7}, 1, 1, 5, 5, 5, nil}, {[]int{3}, nil, 2, 3, 0, 100, 11, []int{3}},
 	} {
-		r, ok := spur.Route(some(), x.root, x.bans, x.from, x.to, x.now, 1, x.by)
-		want, _ := path.Route(some(), x.ids, x.from, x.to, x.now, 1)
+		r, ok := spur.Route(trial.Ladder(), x.root, x.bans, x.from, x.to, x.now, 1, x.by)
+		want, _ := path.Route(trial.Ladder(), x.ids, x.from, x.to, x.now, 1)
 		if !ok || r.Arrive != x.arrive || !path.Same(r, want) {
 			t.Error(x, r, ok)
 		}
@@ -55,7 +46,7 @@ func TestRouteP18_1(t *testing.T) {
 		{[]int{7}, nil, 1, 1, 0, 100}, {nil, []int{1, 2, 7}, 1, 4, 0, 100}, {nil, nil, 4, 1, 0, 100}, {[]int{1}, nil, 1, 4, 50, 100}, {nil, nil, 3, 3, 5, 4}, {[]int{7}, nil, 1, 9, 0, 100},
 		{nil, nil, 1, 4, 0, api.MinInt}, {[]int{7, 5}, nil, 1, 3, 0, 100},
 	} {
-		r, ok := spur.Route(some(), x.root, x.bans, x.from, x.to, x.now, 1, x.by)
+		r, ok := spur.Route(trial.Ladder(), x.root, x.bans, x.from, x.to, x.now, 1, x.by)
 		none(t, x, r, ok)
 	}
 }
@@ -66,23 +57,23 @@ func TestNotRightToAskP18_1(t *testing.T) {
 		r, ok := spur.Route(l, root, nil, from, to, now, size, api.MaxInt)
 		none(t, l, r, ok)
 	}
-	twice, never := some(), some()
+	twice, never := trial.Ladder(), trial.Ladder()
 	twice[1].ID, never[3].Open = 1, -1
 	for _, l := range [][]api.Edge{twice, never, {{}}} {
 		ask(l, nil, 1, 1, 0, 0)
 		ask(l, []int{7}, 1, 3, 0, 0)
 	}
 	for _, n := range []int{0, -1, 256, api.MinInt, api.MaxInt} {
-		ask(some(), nil, n, n, 0, 0)
-		ask(some(), nil, 1, n, 0, 0)
-		ask(some(), []int{7}, 1, n, 0, 0)
-		ask(some(), nil, n, 1, 0, 0)
+		ask(trial.Ladder(), nil, n, n, 0, 0)
+		ask(trial.Ladder(), nil, 1, n, 0, 0)
+		ask(trial.Ladder(), []int{7}, 1, n, 0, 0)
+		ask(trial.Ladder(), nil, n, 1, 0, 0)
 	}
 	for _, n := range []int{-1, 1<<40 + 1, api.MinInt, api.MaxInt} {
-		ask(some(), nil, 1, 1, n, 0)
+		ask(trial.Ladder(), nil, 1, 1, n, 0)
 	}
 	for _, n := range []int{-1, 1 << 40, api.MinInt, api.MaxInt} {
-		ask(some(), nil, 1, 1, 0, n)
+		ask(trial.Ladder(), nil, 1, 1, 0, n)
 	}
 }
 
@@ -130,13 +121,13 @@ func TestRouteIsTheFirstP18_1(t *testing.T) {
 }
 
 func TestNothingIsSharedP18_2(t *testing.T) {
-	l, root, bans := append(some(), api.Edge{ID: -7}), []int{7, -7}, []int{5, -7}
+	l, root, bans := append(trial.Ladder(), api.Edge{ID: -7}), []int{7, -7}, []int{5, -7}
 	r, _ := spur.Route(l[:8], root[:1], bans[:1], 1, 4, 0, 1, 100)
 	was := slices.Clone(r.Hops)
 	for i := range r.Hops[:cap(r.Hops)] {
 		r.Hops[:cap(r.Hops)][i] = api.Hop{ID: -8}
 	}
-	if !slices.Equal(l, append(some(), api.Edge{ID: -7})) || !slices.Equal(root, []int{7, -7}) || !slices.Equal(bans, []int{5, -7}) {
+	if !slices.Equal(l, append(trial.Ladder(), api.Edge{ID: -7})) || !slices.Equal(root, []int{7, -7}) || !slices.Equal(bans, []int{5, -7}) {
 		t.Error(l, root, bans)
 	}
 	if again, _ := spur.Route(l[:8], root[:1], bans[:1], 1, 4, 0, 1, 100); !slices.Equal(again.Hops, was) {

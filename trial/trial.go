@@ -33,6 +33,15 @@ func Edges(d *Dice, nodes, edges int) []api.Edge {
 	return l
 }
 
+// Ladder is right edges, all open from 10 on, without delay: two from 1 to 2, from 2 to 3, and from 3 to 4, and one from 1 to 3, and from 3 to 2.
+func Ladder() []api.Edge {
+	var l []api.Edge
+	for i, x := range [][2]int{{1, 2}, {1, 2}, {2, 3}, {2, 3}, {3, 4}, {3, 4}, {1, 3}, {3, 2}} {
+		l = append(l, api.Edge{ID: i + 1, From: x[0], To: x[1], Open: 10, End: 50, Rate: 1, Room: 40})
+	}
+	return l
+}
+
 // Routes is all routes from from to to that are there at by or earlier, in no order, found by trying each edge.
 func Routes(l []api.Edge, from, to, now, size, by int) []api.Route {
 	var found []api.Route
